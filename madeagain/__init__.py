@@ -1,0 +1,1 @@
+"""Numbers made by recipes, and made again with the least redone."""
