@@ -1,7 +1,7 @@
 """The one writing of each recipe, and its reading back (promise 6)."""
 
 from madeagain.errors import NoText
-from madeagain.recipes import LETTERS, MOST_DEPTH, is_name, is_choice, is_recipe
+from madeagain.recipes import LETTERS, MOST_DEPTH, is_name, is_recipe
 
 FIGURES = "0123456789"
 MOST_FIGURES = 40
@@ -71,8 +71,6 @@ class Reader:
             self.take_signs(",")
             names.append(self.take_name())
         self.take_signs("}")
-        if not is_choice(tuple(names)):
-            raise NoText("one to nine names are chosen from")
         return tuple(names)
 
     # The levels left bound the recursion and the row of choices, so no text leads too deep.
@@ -127,6 +125,7 @@ def read_recipe(text):
     reader = Reader(text)
     r = reader.take_recipe(MOST_DEPTH)
     reader.take_end()
+    # What is read may still choose from too many names, be too deep, or have too many parts.
     if not is_recipe(r):
-        raise NoText("too deep, or of too many recipes")
+        raise NoText("beyond the bounds of a recipe")
     return r
