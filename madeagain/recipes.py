@@ -1,4 +1,4 @@
-"""What is a name, a recipe and a house, told of anything (promises 4 and 5)."""
+"""What is a name, a recipe and a house, told of anything (promises 4 and 5), and what is the same as another."""
 
 LETTERS = "abcdefghijklmnopqrstuvwxyz"
 MOST_LETTERS = 8
@@ -25,6 +25,18 @@ def is_choice(thing):
     if not isinstance(thing, tuple) or not 1 <= len(thing) <= MOST_CHOICES:
         return False
     return all([is_name(name) for name in thing])
+
+
+# Python counts 1 and True, or 1 and 1.0, as equal; here they are not. Told is made of tuples, texts and whole numbers
+# alone, and the walk goes no deeper than it does, whatever the thing is.
+def is_same(told, thing):
+    if isinstance(told, tuple):
+        if not isinstance(thing, tuple) or len(told) != len(thing):
+            return False
+        return all([is_same(part, other) for part, other in zip(told, thing)])
+    if is_whole_number(told):
+        return is_whole_number(thing) and told == thing
+    return isinstance(told, str) and isinstance(thing, str) and told == thing
 
 
 # The recipes within are not looked at here: a chain of them may be too long to follow to its end.

@@ -8,16 +8,9 @@ import unittest
 
 from madeagain.errors import MadeError, NoName, Ring
 from madeagain.worths import reads_of, worth_of
+from plain import Plain, answer, any_house, num, read
 
 THIRTY = ["n" + first + second for first in "abc" for second in "abcdefghij"]
-
-
-def num(n):
-    return ("number", n)
-
-
-def read(name):
-    return ("read", name)
 
 
 def deep_read(name):
@@ -25,80 +18,6 @@ def deep_read(name):
     for kind in ("plus", "minus", "most", "times", "plus", "minus", "plus"):
         r = (kind, r, num(1))
     return r
-
-
-class Plain:
-    """The document's words once more, straight and slow, to hold the program against."""
-
-    def __init__(self, house):
-        self.house = house
-        self.path = []
-        self.reads = {}
-        self.known = {}
-
-    def name(self, name):
-        if name in self.house[0]:
-            return self.house[0][name]
-        if name in self.known:
-            return self.known[name]
-        if name not in self.house[1]:
-            raise NoName(name)
-        if name in self.path:
-            raise Ring(self.path[self.path.index(name):] + [name])
-        self.path.append(name)
-        reads = []
-        self.known[name] = self.recipe(self.house[1][name], reads)
-        self.reads[name] = reads
-        self.path.pop()
-        return self.known[name]
-
-    def read(self, name, reads):
-        worth = self.name(name)
-        if (name, worth) not in reads:
-            reads.append((name, worth))
-        return worth
-
-    def recipe(self, r, reads):
-        if r[0] == "number":
-            return r[1]
-        if r[0] == "read":
-            return self.read(r[1], reads)
-        first = self.recipe(r[1], reads)
-        if r[0] == "pick":
-            return self.recipe(r[2] if first > 0 else r[3], reads)
-        if r[0] == "choose":
-            return self.read(r[2][first % len(r[2])], reads)
-        second = self.recipe(r[2], reads)
-        return {"plus": first + second, "minus": first - second, "times": first * second,
-                "most": first if first > second else second}[r[0]]
-
-
-def answer(call):
-    try:
-        return call()
-    except NoName as e:
-        return ("NoName", e.name)
-    except Ring as e:
-        return ("Ring", e.ring)
-
-
-def any_recipe(chance, names, depth):
-    kind = chance.choice(["number", "read", "read", "plus", "minus", "times", "most", "pick", "choose"])
-    if depth == 1 or kind in ("number", "read"):
-        return num(chance.randint(-3, 3)) if kind == "number" else read(chance.choice(names))
-    if kind == "choose":
-        row = tuple(chance.choice(names) for _ in range(chance.randint(1, 9)))
-        return (kind, any_recipe(chance, names, depth - 1), row)
-    return (kind,) + tuple(any_recipe(chance, names, depth - 1) for _ in range(3 if kind == "pick" else 2))
-
-
-def any_house(chance):
-    names = list("abcdefgh")
-    recipes = {}
-    for place, name in enumerate(names[3:], 3):
-        seen = names[:place] if chance.random() < 0.9 else names + ["none"]
-        recipes[name] = any_recipe(chance, seen, chance.randint(1, 4))
-    return ({name: chance.randint(-3, 3) for name in names[:3]}, recipes)
 
 
 class Worths(unittest.TestCase):
