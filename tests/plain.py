@@ -91,6 +91,94 @@ class PlainAgain(Plain):
         return Plain.build(self, wishes)[:2] + (self.made, self.kept)
 
 
+class PlainStored(Plain):
+    """Point 20: the same from a list of true records, to which those made are put."""
+
+    def __init__(self, house, records):
+        Plain.__init__(self, house)
+        self.records = records
+        self.made = []
+        self.kept = []
+
+    def worth(self, name):
+        r = self.house[1][name]
+        fit = [record for record in self.records if record[0] == r]
+        place = 0
+        while fit and all(len(record[1]) > place for record in fit):
+            number = self.name(fit[0][1][place][0])
+            fit = [record for record in fit if record[1][place][1] == number]
+            place += 1
+        if fit:
+            self.kept.append(name)
+            self.reads[name] = fit[0][1]
+            return fit[0][2]
+        worth = Plain.worth(self, name)
+        self.made.append(name)
+        self.records.append((r, self.reads[name], worth))
+        return worth
+
+    def build(self, wishes):
+        return Plain.build(self, wishes)[:1] + (self.made, self.kept)
+
+
+class PlainWeaving:
+    """Point 22: begun names, the worths known so far, and who waits for whom."""
+
+    def __init__(self, house, wishes):
+        self.given, self.recipes = house
+        for name in wishes:
+            if name not in self.given and name not in self.recipes:
+                raise NoName(name)
+        self.known = dict(self.given)
+        self.begun = []
+        self.waits = {}
+        for name in wishes:
+            self.begin(name)
+
+    def begin(self, name):
+        if name in self.recipes and name not in self.begun:
+            self.begun.append(name)
+
+    def done(self):
+        return all(name in self.known for name in self.begun)
+
+    def free(self):
+        return [name for name in self.begun if name not in self.known and name not in self.waits]
+
+    def go(self, name):
+        try:
+            worth = Plain((self.known, {})).recipe(self.recipes[name], [])
+        except NoName as e:
+            if e.name not in self.recipes:
+                raise
+            self.begin(e.name)
+            self.waits[name] = e.name
+            return (name, "waits", e.name)
+        self.known[name] = worth
+        self.waits = {one: other for one, other in self.waits.items() if other != name}
+        return (name, "known", worth)
+
+    def ring(self):
+        for name in self.begun:
+            ring = [name]
+            while len(ring) <= len(self.begun) and ring[-1] in self.waits:
+                ring.append(self.waits[ring[-1]])
+                if ring[-1] == name:
+                    return ring
+        return None
+
+    def woven(self, choices):
+        trace = []
+        choices = list(choices)
+        while not self.done():
+            free = self.free()
+            if not free:
+                raise Ring(self.ring())
+            choice = choices.pop(0) if choices else 0
+            trace.append(self.go(free[choice % len(free)]))
+        return trace
+
+
 def answer(call):
     try:
         return call()
