@@ -5,8 +5,12 @@ from madeagain.errors import NoRecord
 from madeagain.searches import searched
 
 
-# A record is kept as (recipe, tuple of reads, worth), which nobody can change: rows has each once, in the order in
-# which they were put, and by_recipe has them once more by their recipes.
+# A record in a form that nobody can change, and that a dict can have as a key.
+def row_of(record):
+    return (record[0], tuple(record[1]), record[2])
+
+
+# Rows has each record once, in the order in which they were put, and by_recipe has them once more by their recipes.
 class Store:
     def __init__(self):
         self.rows = {}
@@ -19,7 +23,7 @@ class Store:
 
     # What a build has made is true and not asked again. (So a recipe beyond the bounds, too, is made but once.)
     def put_made(self, record):
-        row = (record[0], tuple(record[1]), record[2])
+        row = row_of(record)
         if row in self.rows:
             return False
         self.rows[row] = True

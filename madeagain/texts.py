@@ -129,3 +129,10 @@ def read_recipe(text):
     if not is_recipe(r):
         raise NoText("beyond the bounds of a recipe")
     return r
+
+
+def read_number(text):
+    reader = Reader(text)
+    number = reader.take_number()
+    reader.take_end()
+    return number

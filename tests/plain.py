@@ -1,6 +1,10 @@
 """What several tests share: the document's words once more, straight and slow, and houses by chance."""
 
-from madeagain.errors import NoName, Ring
+import re
+
+from madeagain.errors import MadeError, NoDeed, NoName, NoRecord, NoRow, Ring
+from madeagain.recordtexts import show_record
+from madeagain.texts import read_recipe
 
 
 def num(n):
@@ -179,6 +183,103 @@ class PlainWeaving:
         return trace
 
 
+class PlainHistory:
+    """Point 25, and 27 for one case: the house is made anew from the deeds that stand."""
+
+    def __init__(self):
+        self.standing = []
+        self.undone = []
+        self.records = []
+        self.made = []
+        self.kept = []
+        self.why = {}
+        self.wished = None
+
+    def house(self):
+        given, recipes = {}, {}
+        for deed in self.standing:
+            given.pop(deed[1], None)
+            recipes.pop(deed[1], None)
+            if deed[0] != "drop":
+                (given if deed[0] == "give" else recipes)[deed[1]] = deed[2]
+        return (given, recipes)
+
+    def deed(self, *deed):
+        if deed[0] == "drop" and deed[1] not in {**self.house()[0], **self.house()[1]}:
+            raise NoName(deed[1])
+        self.standing.append(deed)
+        self.undone = []
+
+    def undo(self):
+        if not self.standing:
+            raise NoDeed()
+        self.undone.append(self.standing.pop())
+
+    def redo(self):
+        if not self.undone:
+            raise NoDeed()
+        self.standing.append(self.undone.pop())
+
+    def wish(self, names):
+        plain = PlainStored(self.house(), self.records)
+        worths, self.made, self.kept = plain.build(names)
+        self.why = {name: (plain.house[1][name], plain.reads[name], plain.known[name]) for name in plain.known}
+        self.wished = names
+        return [worths[name] for name in names]
+
+    def clean(self, names):
+        plain = PlainStored(self.house(), self.records)
+        try:
+            made = plain.build(names)[1]
+        except MadeError:
+            raise NoRecord()
+        if made:
+            raise NoRecord()
+        keeping = [(plain.house[1][name], plain.reads[name], plain.known[name]) for name in plain.known]
+        self.records = [record for record in self.records if record in keeping]
+        return len(self.records)
+
+
+class PlainDesk(PlainHistory):
+    """Points 29 and 30: each kind of row by a pattern."""
+
+    NAME = "([a-z]{1,8})"
+    NUMBER = "(0|-?[1-9][0-9]{0,39})"
+
+    def say(self, row):
+        for pattern, call in (
+                (f"give {self.NAME} {self.NUMBER}", lambda name, n: self.deed("give", name, int(n)) or "ok"),
+                (f"cook {self.NAME} (.*)", lambda name, text: self.deed("cook", name, read_recipe(text)) or "ok"),
+                (f"drop {self.NAME}", lambda name: self.deed("drop", name) or "ok"),
+                ("undo", lambda: self.undo() or "ok"),
+                ("redo", lambda: self.redo() or "ok"),
+                (f"wish ({self.NAME}( {self.NAME})*)",
+                 lambda names, *rest: " ".join(map(str, self.wish(names.split(" "))))),
+                ("made", lambda: " ".join(self.made) or "none"),
+                ("kept", lambda: " ".join(self.kept) or "none"),
+                (f"why {self.NAME}", self.say_why),
+                ("deeds", lambda: str(len(self.standing))),
+                ("records", lambda: str(len(self.records))),
+                ("clean", self.say_clean)):
+            match = re.fullmatch(pattern, row, re.DOTALL)
+            if match:
+                return call(*match.groups())
+        raise NoRow()
+
+    def say_why(self, name):
+        if name not in self.why:
+            raise NoName(name)
+        return show_record(self.why[name])
+
+    def say_clean(self):
+        if self.wished is None:
+            raise NoRecord()
+        return str(self.clean(self.wished))
+
+
+REFUSALS = ("NoName", "Ring", "NoRead", "NoRecord", "NoDeed", "NoText", "NoRow")
+
+
 def answer(call):
     try:
         return call()
@@ -186,10 +287,12 @@ def answer(call):
         return ("NoName", e.name)
     except Ring as e:
         return ("Ring", e.ring)
+    except MadeError as e:
+        return (type(e).__name__,)
 
 
 def refused(told):
-    return told[:1] in (("NoName",), ("Ring",))
+    return isinstance(told, tuple) and told[:1] != () and told[0] in REFUSALS
 
 
 def any_recipe(chance, names, depth):

@@ -22,6 +22,12 @@ compile copyright credits delattr dir eval exec exit gc getattr globals hasattr 
 methodcaller os quit setattr super vars sys format format_map""".split())
 SPECIAL = {"__init__", "__eq__", "__repr__", "__str__", "__len__"}
 
+LAZY = {"zip", "enumerate", "reversed", "range"}
+LAZY_METHODS = {"items", "keys", "values"}
+WALKERS = {"list", "tuple", "dict", "sorted", "sum", "any", "all", "enumerate", "zip"}
+KEYWORDS = {"sorted": {"key", "reverse"}, "min": {"key", "default"}, "max": {"key", "default"}, "sum": {"start"},
+            "enumerate": {"start"}, "zip": {"strict"}}
+
 STATEMENTS = (ast.FunctionDef, ast.ClassDef, ast.Assign, ast.AugAssign, ast.If, ast.While, ast.For, ast.Return,
               ast.Break, ast.Continue, ast.Pass, ast.Raise, ast.Try, ast.Expr, ast.ImportFrom)
 VALUES = (ast.Constant, ast.List, ast.Tuple, ast.Dict, ast.BinOp, ast.UnaryOp, ast.Compare, ast.BoolOp, ast.IfExp,
@@ -49,6 +55,7 @@ class Faults:
         self.text = text
         self.tree = ast.parse(text)
         self.found = []
+        self.above = {inner: node for node in ast.walk(self.tree) for inner in ast.iter_child_nodes(node)}
         self.signs()
         self.top()
         for node in ast.walk(self.tree):
@@ -129,14 +136,55 @@ class Faults:
             self.note("L7", node.lineno)
         if isinstance(node, ast.FormattedValue) and (node.format_spec or not isinstance(node.value, ast.Name)):
             self.note("L7", node.lineno)
+        if isinstance(node, ast.BinOp) and isinstance(node.op, ast.Pow):
+            if not isinstance(node.right, ast.Constant) or not 0 <= node.right.value <= 64:
+                self.note("L27", node.lineno)
+        if isinstance(node, ast.Set):
+            self.note("L24", node.lineno)
+        if isinstance(node, ast.Call):
+            self.call(node)
         if isinstance(node, ast.Name):
             self.name(node)
         if isinstance(node, ast.Attribute):
             self.plain(node.attr, node.lineno)
 
+    def call(self, node):
+        called = node.func.id if isinstance(node.func, ast.Name) else ""
+        method = node.func.attr if isinstance(node.func, ast.Attribute) else ""
+        lazy = called in LAZY or method in LAZY_METHODS
+        if lazy and not self.walked_at_once(node):
+            self.note("L23", node.lineno)
+        if called in ("set", "frozenset") and not self.set_on_the_spot(node):
+            self.note("L24", node.lineno)
+        own = called in self.bound or method not in ("", *METHODS)
+        if not own and {word.arg for word in node.keywords} - KEYWORDS.get(called, set()):
+            self.note("L22", node.lineno)
+        if called == "isinstance":
+            kinds = node.args[1].elts if isinstance(node.args[1], ast.Tuple) else [node.args[1]]
+            if not all(isinstance(kind, ast.Name) for kind in kinds):
+                self.note("L22", node.lineno)
+
+    def walked_at_once(self, node):
+        above = self.above[node]
+        if isinstance(above, (ast.For, ast.comprehension)):
+            return above.iter is node
+        called = above.func.id if isinstance(above, ast.Call) and isinstance(above.func, ast.Name) else ""
+        return called in WALKERS and above.args[0] is node or called in ("min", "max") and above.args == [node]
+
+    def set_on_the_spot(self, node):
+        above = self.above[node]
+        while isinstance(above, ast.BinOp):
+            above = self.above[above]
+        if isinstance(above, ast.Compare):
+            return all(isinstance(op, (ast.In, ast.NotIn, ast.Eq, ast.NotEq)) for op in above.ops)
+        return isinstance(above, ast.Call) and isinstance(above.func, ast.Name) and above.func.id in ("sorted", "len")
+
     def name(self, node):
         self.plain(node.id, node.lineno)
         known = hasattr(builtins, node.id)
+        called = isinstance(self.above[node], ast.Call) and self.above[node].func is node
+        if node.id in LAZY | {"len", "sorted", "set", "sum", "min", "max", "any", "all"} and not called:
+            self.note("L22", node.lineno)
         if known and isinstance(node.ctx, ast.Store):
             self.note("L15", node.lineno)
         if known and node.id not in BUILT_IN:
@@ -186,8 +234,10 @@ class Faults:
                     self.note("L20", node.lineno)
 
     def handler(self, node):
-        if not isinstance(node.type, ast.Name) or node.type.id in ("Exception", "TypeError"):
-            self.note("L19", node.lineno)
+        kinds = node.type.elts if isinstance(node.type, ast.Tuple) else [node.type]
+        for kind in kinds:
+            if not isinstance(kind, ast.Name) or kind.id in ("Exception", "TypeError"):
+                self.note("L19", node.lineno)
 
 
 def methods_and_values(tree):
@@ -246,6 +296,10 @@ class Language(unittest.TestCase):
             "x = 1\nx = 2\n": "L15", "def f(max):\n    pass\n": "L15", "def f():\n    print(1)\n": "L8",
             "_x = 1\n": "L12", "# a type\n": "L17", "class A:\n    x = 1\n": "L5", "# " + "x" * 120 + "\n": "L10",
             "def f():\n    del x\n": "L6", "def f():\n    try:\n        g()\n    except Exception:\n        pass\n": "L19",
+            "def f(x):\n    y = zip(x, x)\n": "L23", "def f(x):\n    return x.items()\n": "L23",
+            "def f(x):\n    y = set(x)\n": "L24", "def f(x):\n    return {1, x}\n": "L24", "def f(n):\n    return 2 ** n\n": "L27",
+            "def f(x):\n    for y in set(x):\n        pass\n": "L24", "def f(x):\n    y = len\n": "L22",
+            "def f(x):\n    return x.split(' ', maxsplit=2)\n": "L22", "def f(x):\n    return isinstance(x, x.y)\n": "L22",
             "def f():\n" + "    pass\n" * 40: "L10", "x = '\u00e4'\n": "L14", "\tx = 1\n".strip() + "\t# a\n": "L14",
         }
         for text, rule in wrong.items():

@@ -181,7 +181,7 @@ class Whole(unittest.TestCase):
             self.assertEqual((house, wishes, choices), before)
             self.assertEqual(answer(lambda: woven(house, wishes, choices)), told)
             fresh = answer(lambda: fresh_build(house, wishes))
-            if refused(tuple(told)):
+            if refused(told):
                 self.assertTrue(refused(fresh), before)
                 kinds[told[0]] += 1
                 kinds["one each"] += told[0] != fresh[0]
